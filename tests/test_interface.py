@@ -1,0 +1,58 @@
+"""The names, parameters and homes of what the interface lists for the files that have landed."""
+
+import importlib
+import inspect
+import unittest
+
+FUNCTIONS = {
+    "paystreams.ratios": {
+        "as_ratio": ["given"], "lesser": ["one", "other"], "greater": ["one", "other"], "total": ["numbers"],
+        "raised": ["number", "exponent"],
+    },
+    "paystreams.systems": {
+        "solved": ["rows", "right"], "inverse": ["rows"], "applied": ["rows", "numbers"], "least_place": ["numbers"],
+        "weighed": ["numbers", "weights"],
+    },
+}
+METHODS = {
+    ("paystreams.ratios", "Ratio"): {"__init__": ["self", "top", "bottom"], "over": ["self", "number"], "text": ["self"]},
+}
+OTHERS = {
+    ("paystreams.ratios", "Ratio"): [
+        "read", "top", "bottom", "__add__", "__sub__", "__mul__", "__neg__", "__eq__", "__lt__", "__le__",
+    ],
+}
+
+
+def parameters(function):
+    return list(inspect.signature(function).parameters)
+
+
+class InterfaceTest(unittest.TestCase):
+    def test_functions(self):
+        for module, functions in FUNCTIONS.items():
+            for name, expected in functions.items():
+                with self.subTest(module=module, name=name):
+                    function = getattr(importlib.import_module(module), name)
+                    self.assertTrue(inspect.isfunction(function))
+                    self.assertEqual(function.__module__, module)
+                    self.assertEqual(parameters(function), expected)
+
+    def test_methods_stand_in_the_class_itself(self):
+        for (module, name), methods in METHODS.items():
+            found = getattr(importlib.import_module(module), name)
+            self.assertEqual(found.__module__, module)
+            for method, expected in methods.items():
+                with self.subTest(name=name, method=method):
+                    self.assertEqual(parameters(vars(found)[method]), expected)
+            for other in OTHERS[module, name]:
+                self.assertIn(other, vars(found))
+
+    def test_the_bottom_of_a_ratio_is_1_by_default(self):
+        ratio = importlib.import_module("paystreams.ratios").Ratio
+        self.assertEqual(inspect.signature(ratio).parameters["bottom"].default, 1)
+        self.assertEqual(parameters(ratio.read), ["text"])
+
+
+if __name__ == "__main__":
+    unittest.main()
