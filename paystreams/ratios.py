@@ -87,6 +87,21 @@ def is_whole(value):
     return isinstance(value, int) and not isinstance(value, bool)
 
 
+def is_number(value):
+    """Tell whether a value is an integer or a Ratio."""
+    return isinstance(value, Ratio) or is_whole(value)
+
+
+def is_unsigned(value):
+    """Tell whether a value is a number that is at least 0."""
+    return is_number(value) and Ratio(0) <= value
+
+
+def is_positive(value):
+    """Tell whether a value is a number above 0."""
+    return is_number(value) and Ratio(0) < value
+
+
 def as_ratio(given):
     """Return the Ratio that is equal to a number."""
     if isinstance(given, Ratio):

@@ -1,12 +1,15 @@
-"""Values that several tests need."""
+"""Values that several tests need, and plain models of what the program does, in Python's own Fractions."""
 
 import random
 from fractions import Fraction
+from itertools import combinations
 
+from paystreams.books import Book
 from paystreams.ratios import Ratio
 
 BIG = 10 ** 60 - 1
 HUGE = 10 ** 59 + 7
+NAMES = ["g", "ann", "bob", "mill", "inn", "aa", "abcdefgh"]
 
 
 def values_of_every_kind():
@@ -42,3 +45,115 @@ def some_ratio(source, most):
 
 def texts(ratios):
     return [ratio.text() for ratio in ratios]
+
+
+def some_part(source, most, least=0):
+    """A random number that is at least 0, or above 0: an integer, or a Ratio with a small bottom."""
+    top = source.randint(least, most)
+    return source.choice([top, Ratio(top), Ratio(top, source.randint(1, 3))])
+
+
+def some_book(source, size, most=4, streams_of_ten=5):
+    """A random book whose accounts stand in no order, with so many of ten possible streams."""
+    names = source.sample(NAMES, size)
+    accounts = {name: (some_part(source, most), source.choice([0, some_part(source, most)])) for name in names}
+    places = [(start, end) for start in names for end in ["", *names] if start != end]
+    places = [place for place in places if source.randint(1, 10) <= streams_of_ten]
+    source.shuffle(places)
+    return Book(accounts, [(start, end, some_part(source, most, 1)) for start, end in places])
+
+
+def great_book(source, whole):
+    """A random book of 7 accounts and 36 streams, with numbers of 60 digits, in which all run dry sooner or later."""
+    def great():
+        top = source.randint(HUGE, BIG)
+        return top if whole else Ratio(top, source.randint(HUGE, BIG))
+
+    def little():
+        top = source.randint(1, BIG // 1000)
+        return top if whole else Ratio(top, source.randint(HUGE, BIG))
+
+    places = source.sample([(start, end) for start in NAMES for end in ["", *NAMES] if start != end], 36)
+    return Book({name: (great(), little()) for name in NAMES}, [(start, end, great()) for start, end in places])
+
+
+def plain(value):
+    """The same value with Fractions in the place of Ratios."""
+    if isinstance(value, dict):
+        return {key: plain(item) for key, item in value.items()}
+    if isinstance(value, (list, tuple)):
+        return type(value)(plain(item) for item in value)
+    return fraction(value) if isinstance(value, Ratio) else value
+
+
+def rich_of(book):
+    return [name for name in book.names() if 0 < fraction(book.amount(name))]
+
+
+def model_inflows(book, table):
+    """The inflows at the rates of a table, as point 3 tells them."""
+    found = {name: fraction(book.inlet(name)) for name in book.names()}
+    for start, end, wish in book.streams():
+        if end != "":
+            found[end] += fraction(table[start]) * fraction(wish) / fraction(book.wish(start))
+    return found
+
+
+def model_fits(book, table, rich):
+    """Whether a table fits, as point 3 tells it."""
+    coming = model_inflows(book, table)
+    wishes = {name: fraction(book.wish(name)) for name in book.names()}
+    return all(table[name] == (wishes[name] if name in rich else min(wishes[name], coming[name])) for name in wishes)
+
+
+def model_rates(book, rich):
+    """The greatest of all tables that fit, found by trying all lots of short accounts."""
+    poor = [name for name in book.names() if name not in rich]
+    tables = []
+    for many in range(len(poor) + 1):
+        for dry in combinations(poor, many):
+            table = _model_table(book, dry)
+            if table is not None and model_fits(book, table, rich):
+                tables.append(table)
+    best = max(tables, key=lambda table: sum(table.values()))
+    assert all(table[name] <= best[name] for table in tables for name in table)
+    return best
+
+
+def _model_table(book, dry):
+    """The table in which these accounts pay their inflow and the others their wish; None if there is not just one."""
+    table = {name: Fraction(0) if name in dry else fraction(book.wish(name)) for name in book.names()}
+    if any(book.wish(name) == 0 for name in dry):
+        return None
+    rows = []
+    for end in dry:
+        row = [Fraction(start == end) for start in dry] + [model_inflows(book, table)[end]]
+        for start, to, wish in book.streams():
+            if start in dry and to == end:
+                row[dry.index(start)] -= fraction(wish) / fraction(book.wish(start))
+        rows.append(row)
+    for place in range(len(rows)):
+        lead = next((row for row in rows[place:] if row[place] != 0), None)
+        if lead is None:
+            return None
+        rows.remove(lead)
+        rows = [[item - row[place] / lead[place] * taken for item, taken in zip(row, lead)] for row in rows]
+        rows.insert(place, [item / lead[place] for item in lead])
+    return {**table, **{name: row[-1] for name, row in zip(dry, rows)}}
+
+
+def model_course(book):
+    """The stretches of time without a change, as tuples (moment, amounts, rates, slopes), as point 4 tells them."""
+    moment = Fraction(0)
+    amounts = {name: fraction(book.amount(name)) for name in book.names()}
+    found = []
+    while True:
+        table = model_rates(book, [name for name in amounts if amounts[name] > 0])
+        coming = model_inflows(book, table)
+        slopes = {name: coming[name] - table[name] for name in amounts}
+        found.append((moment, amounts, table, slopes))
+        times = [-amounts[name] / slopes[name] for name in amounts if slopes[name] < 0]
+        if not times:
+            return found
+        moment = moment + min(times)
+        amounts = {name: amounts[name] + slopes[name] * min(times) for name in amounts}

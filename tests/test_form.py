@@ -104,6 +104,29 @@ class FormTest(unittest.TestCase):
                 self.assertIsInstance(node.right, ast.Constant, place)
                 self.assertIn(node.right.value, range(65), place)
 
+    def test_only_plain_strings_and_numbers_are_sorted(self):
+        for place, node in nodes(ast.Call):
+            if isinstance(node.func, ast.Name) and node.func.id in ("sorted", "min", "max"):
+                self.assertRegex(ast.unparse(node.args[0]), r"^\[(str|int|len)\(", place)
+        for place, node in nodes(ast.Attribute):
+            self.assertNotEqual(node.attr, "sort", place)
+
+    def test_no_local_name_is_that_of_a_class_or_an_import_of_its_file(self):
+        for path, tree in trees():
+            taken = {alias.name for node in tree.body if isinstance(node, ast.ImportFrom) for alias in node.names}
+            taken |= {node.name for node in tree.body if isinstance(node, ast.ClassDef)}
+            for node in ast.walk(tree):
+                if isinstance(node, ast.arg):
+                    self.assertNotIn(node.arg, taken, path.name)
+                if isinstance(node, ast.Name) and isinstance(node.ctx, ast.Store):
+                    self.assertNotIn(node.id, taken, path.name)
+
+    def test_no_name_is_both_a_method_and_an_attribute(self):
+        methods = {part.name for _, node in nodes(ast.ClassDef) for part in node.body if isinstance(part, ast.FunctionDef)}
+        for place, node in nodes(ast.Attribute):
+            if isinstance(node.ctx, ast.Store):
+                self.assertNotIn(node.attr, methods, place)
+
     def test_decorators(self):
         for place, node in nodes(ast.ClassDef, ast.FunctionDef):
             for decorator in node.decorator_list:

@@ -13,14 +13,35 @@ FUNCTIONS = {
         "solved": ["rows", "right"], "inverse": ["rows"], "applied": ["rows", "numbers"], "least_place": ["numbers"],
         "weighed": ["numbers", "weights"],
     },
+    "paystreams.rates": {
+        "rates": ["book", "rich"], "inflows": ["book", "rich"], "short": ["book", "rich"],
+        "stream_rates": ["book", "rich"],
+        "is_table": ["book", "table"], "fits": ["book", "table", "rich"], "inflows_of": ["book", "table"],
+        "feeds": ["book", "table"],
+    },
+    "paystreams.course": {
+        "falls": ["book"], "fall_of": ["book", "name"], "later": ["book", "days"], "rates_at": ["book", "days"],
+        "paid": ["book", "days"], "pieces": ["book", "name"], "settled": ["book"],
+    },
 }
 METHODS = {
-    ("paystreams.ratios", "Ratio"): {"__init__": ["self", "top", "bottom"], "over": ["self", "number"], "text": ["self"]},
+    ("paystreams.ratios", "Ratio"): {
+        "__init__": ["self", "top", "bottom"], "over": ["self", "number"], "text": ["self"],
+    },
+    ("paystreams.books", "Book"): {
+        "__init__": ["self", "accounts", "streams"], "text": ["self"], "names": ["self"], "streams": ["self"],
+        "amount": ["self", "name"], "inlet": ["self", "name"], "wish": ["self", "name"],
+        "wish_of": ["self", "start", "end"],
+        "paid_in": ["self", "name", "amount"], "drawn": ["self", "name", "amount"],
+        "with_inlet": ["self", "name", "inlet"],
+        "with_stream": ["self", "start", "end", "wish"], "without_stream": ["self", "start", "end"],
+    },
 }
 OTHERS = {
     ("paystreams.ratios", "Ratio"): [
         "read", "top", "bottom", "__add__", "__sub__", "__mul__", "__neg__", "__eq__", "__lt__", "__le__",
     ],
+    ("paystreams.books", "Book"): ["read", "__len__", "__eq__"],
 }
 
 
@@ -52,6 +73,16 @@ class InterfaceTest(unittest.TestCase):
         ratio = importlib.import_module("paystreams.ratios").Ratio
         self.assertEqual(inspect.signature(ratio).parameters["bottom"].default, 1)
         self.assertEqual(parameters(ratio.read), ["text"])
+
+    def test_a_book_has_no_streams_by_default(self):
+        book = importlib.import_module("paystreams.books").Book
+        self.assertEqual(inspect.signature(book).parameters["streams"].default, ())
+        self.assertEqual(parameters(book.read), ["text"])
+
+    def test_the_rich_accounts_are_none_by_default(self):
+        found = importlib.import_module("paystreams.rates")
+        for name in ["rates", "inflows", "short", "stream_rates", "fits"]:
+            self.assertIsNone(inspect.signature(getattr(found, name)).parameters["rich"].default)
 
 
 if __name__ == "__main__":

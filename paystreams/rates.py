@@ -1,0 +1,130 @@
+"""At which rates money flows in a book, for given rich accounts."""
+
+from paystreams.books import check_account
+from paystreams.errors import BadTable
+from paystreams.ratios import Ratio, as_ratio, is_unsigned, lesser, total
+from paystreams.systems import solved
+
+
+def rates(book, rich=None):
+    """Return the dict of the rates."""
+    parts = _parts_paid(book, rich)
+    return {name: book.wish(name) * parts[name] for name in parts}
+
+
+def inflows(book, rich=None):
+    """Return the dict of the inflows at the rates."""
+    return _inflows_by(book, _parts_paid(book, rich))
+
+
+def short(book, rich=None):
+    """Return the ascending list of the accounts that are short."""
+    parts = _parts_paid(book, rich)
+    return [name for name in parts if parts[name] < 1]
+
+
+def stream_rates(book, rich=None):
+    """Return the list of the tuples (start, end, rate) of all streams at the rates."""
+    return _flows_by(book, _parts_paid(book, rich))
+
+
+def is_table(book, table):
+    """Tell whether any value is a table: a dict with a number from 0 to its wish for each account."""
+    if not isinstance(table, dict) or len(table) != len(book):
+        return False
+    return all([name in table and _is_rate(table[name], book.wish(name)) for name in book.names()])
+
+
+def fits(book, table, rich=None):
+    """Tell whether a table fits: each rich account pays its wish, each other one what comes in, up to its wish."""
+    paying = _rich_names(book, rich)
+    coming = inflows_of(book, table)
+    for name in book.names():
+        wish = book.wish(name)
+        due = wish if name in paying else lesser(wish, coming[name])
+        if due != table[name]:
+            return False
+    return True
+
+
+def inflows_of(book, table):
+    """Return the dict of the inflows at the rates of a table."""
+    if not is_table(book, table):
+        raise BadTable()
+    return _inflows_by(book, {name: _part_of(table[name], book.wish(name)) for name in book.names()})
+
+
+def feeds(book, table):
+    """Tell whether each account of a table pays at most its inflow."""
+    coming = inflows_of(book, table)
+    return all([as_ratio(table[name]) <= coming[name] for name in book.names()])
+
+
+def _rich_names(book, rich):
+    """Return the list of the names of the rich accounts."""
+    if rich is None:
+        return [name for name in book.names() if Ratio(0) < book.amount(name)]
+    for name in rich:
+        check_account(book, name)
+    return rich
+
+
+def _parts_paid(book, rich):
+    """Return for each account the part of its wish that it pays at the rates.
+
+    At first all pay their wishes. Those that are not rich and get less than their wish become dry: from then on they
+    pay just what comes in. So nobody ever pays less here than at the rates, and who becomes dry is short at the rates
+    too. When nobody becomes dry any more, the table fits, and so it is that of the rates.
+    """
+    paying = _rich_names(book, rich)
+    dry = []
+    while True:
+        parts = _parts_with(book, dry)
+        coming = _inflows_by(book, parts)
+        more = [name for name in parts if name not in [*paying, *dry] and coming[name] < book.wish(name)]
+        if len(more) == 0:
+            return parts
+        dry = [*dry, *more]
+
+
+def _parts_with(book, dry):
+    """Return the part of its wish that each account pays if the dry ones pay what comes in, the others their wishes.
+
+    The system has just one solution: it would have none or many only if there were a ring of dry accounts that no
+    money leaves. But where money goes round in a ring that nothing leaves, all of it could pay more until one account
+    pays its wish; so not all accounts of such a ring are short at the rates.
+    """
+    parts = {name: Ratio(0 if name in dry else 1) for name in book.names()}
+    coming = _inflows_by(book, parts)
+    found = solved(_dry_rows(book, dry), [coming[name] for name in dry])
+    for name, part in zip(dry, found):
+        parts[name] = part
+    return parts
+
+
+def _dry_rows(book, dry):
+    """Return a row for each dry account: for the part of each, what the one pays at it less what it gets at it."""
+    losses = {(start, end): -wish for start, end, wish in book.streams()}
+    for name in dry:
+        losses[name, name] = book.wish(name)
+    return [[losses.get((start, end), 0) for start in dry] for end in dry]
+
+
+def _inflows_by(book, parts):
+    """Return the dict of the inflows, by the part of its wish that each account pays."""
+    flows = _flows_by(book, parts)
+    return {name: book.inlet(name) + total([rate for _, end, rate in flows if end == name]) for name in parts}
+
+
+def _flows_by(book, parts):
+    """Return the tuples (start, end, rate) of all streams, by the part of its wish that each account pays."""
+    return [(start, end, wish * parts[start]) for start, end, wish in book.streams()]
+
+
+def _is_rate(value, wish):
+    return is_unsigned(value) and as_ratio(value) <= wish
+
+
+def _part_of(rate, wish):
+    # An account without streams pays nothing, whatever the part is.
+    return Ratio(0) if wish == 0 else as_ratio(rate).over(wish)
