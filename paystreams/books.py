@@ -29,7 +29,7 @@ class Book:
             if len(streams) == 0 and _tells_account(words, accounts):
                 accounts[words[1]] = (_number_in(words[2]), _number_in(words[3]))
             elif _tells_stream(words, accounts, streams):
-                streams.append((words[1], _end_in(words[2]), _number_in(words[3])))
+                streams.append((words[1], end_in(words[2]), _number_in(words[3])))
             else:
                 raise BadLine(number)
         return cls(accounts, streams)
@@ -130,6 +130,23 @@ def check_account(book, name):
         raise NoAccount(name)
 
 
+def accounts_of(book):
+    """Return the dict of the tuples (amount, inlet) of all accounts, as Book takes it."""
+    return {name: (book.amount(name), book.inlet(name)) for name in book.names()}
+
+
+def with_amounts(book, amounts):
+    """Return the book in which the accounts have the amounts of a dict."""
+    return Book({name: (amounts[name], book.inlet(name)) for name in book.names()}, book.streams())
+
+
+def end_in(word):
+    """Return the end of a stream that a word of a text tells, and None for a word that tells none."""
+    if word == "-":
+        return ""
+    return word if is_name(word) else None
+
+
 def _check_accounts(accounts):
     for name in accounts:
         if not is_name(name):
@@ -174,15 +191,8 @@ def _tells_stream(words, accounts, streams):
     """Tell whether a line of these words can stand behind the lines of these accounts and streams."""
     if len(words) != 4 or words[0] != "stream":
         return False
-    told = (words[1], _end_in(words[2]), _number_in(words[3]))
+    told = (words[1], end_in(words[2]), _number_in(words[3]))
     return _is_stream(told, list(accounts)) and all([stream[:2] < told[:2] for stream in streams])
-
-
-def _end_in(word):
-    """Return the end of a stream that a word tells, and None for a word that tells none."""
-    if word == "-":
-        return ""
-    return word if is_name(word) else None
 
 
 def _number_in(word):

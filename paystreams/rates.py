@@ -6,6 +6,33 @@ from paystreams.ratios import Ratio, as_ratio, is_unsigned, lesser, total
 from paystreams.systems import solved
 
 
+class Flow:
+    """How money flows for some rich accounts; it never changes."""
+
+    def __init__(self, book, rich):
+        names = book.names()
+        self.flows = stream_rates(book, rich)
+        self.rates = {name: total([rate for start, _, rate in self.flows if start == name]) for name in names}
+        coming = {name: total([rate for _, end, rate in self.flows if end == name]) for name in names}
+        self.slopes = {name: book.inlet(name) + coming[name] - self.rates[name] for name in names}
+        self.dry = [name for name in names if self.rates[name] < book.wish(name)]
+
+
+class Flows:
+    """How money flows in a book for every lot of rich accounts; each one is worked out once."""
+
+    def __init__(self, book):
+        self._book = book
+        self._known = {}
+
+    def at(self, rich):
+        """Return the Flow for a list of rich accounts."""
+        key = tuple(rich)
+        if key not in self._known:
+            self._known[key] = Flow(self._book, rich)
+        return self._known[key]
+
+
 def rates(book, rich=None):
     """Return the dict of the rates."""
     parts = _parts_paid(book, rich)
@@ -60,6 +87,14 @@ def feeds(book, table):
     return all([as_ratio(table[name]) <= coming[name] for name in book.names()])
 
 
+def dry_rows(book, dry):
+    """Return a row for each dry account: for the part of each, what the one pays at it less what it gets at it."""
+    losses = {(start, end): -wish for start, end, wish in book.streams()}
+    for name in dry:
+        losses[name, name] = book.wish(name)
+    return [[losses.get((start, end), 0) for start in dry] for end in dry]
+
+
 def _rich_names(book, rich):
     """Return the list of the names of the rich accounts."""
     if rich is None:
@@ -96,18 +131,10 @@ def _parts_with(book, dry):
     """
     parts = {name: Ratio(0 if name in dry else 1) for name in book.names()}
     coming = _inflows_by(book, parts)
-    found = solved(_dry_rows(book, dry), [coming[name] for name in dry])
+    found = solved(dry_rows(book, dry), [coming[name] for name in dry])
     for name, part in zip(dry, found):
         parts[name] = part
     return parts
-
-
-def _dry_rows(book, dry):
-    """Return a row for each dry account: for the part of each, what the one pays at it less what it gets at it."""
-    losses = {(start, end): -wish for start, end, wish in book.streams()}
-    for name in dry:
-        losses[name, name] = book.wish(name)
-    return [[losses.get((start, end), 0) for start in dry] for end in dry]
 
 
 def _inflows_by(book, parts):

@@ -1,14 +1,22 @@
 """Values that several tests need, and plain models of what the program does, in Python's own Fractions."""
 
 import random
+import unittest
 from fractions import Fraction
 from itertools import combinations
 
 from paystreams.books import Book
+from paystreams.course import falls
+from paystreams.errors import NoAccount
 from paystreams.ratios import Ratio
 
 BIG = 10 ** 60 - 1
 HUGE = 10 ** 59 + 7
+FAR = 10 ** 18
+NO_UNSIGNED = [
+    None, True, False, -1, -BIG, Ratio(-1, 2), Ratio(-1, BIG), "", "1", "1/2", [], [1], (), (1,), {}, {1: 1}, 0.5, 1.0,
+]
+NO_POSITIVE = [*NO_UNSIGNED, 0, Ratio(0)]
 NAMES = ["g", "ann", "bob", "mill", "inn", "aa", "abcdefgh"]
 
 
@@ -75,6 +83,59 @@ def great_book(source, whole):
 
     places = source.sample([(start, end) for start in NAMES for end in ["", *NAMES] if start != end], 36)
     return Book({name: (great(), little()) for name in NAMES}, [(start, end, great()) for start, end in places])
+
+
+def ring_book(source, size, most=2):
+    """A random book in which money hardly leaves: most streams lead to other accounts, and most inlets are 0."""
+    book = some_book(source, size, most, 6)
+    for name in book.names():
+        if book.wish(name) == 0 or source.random() < 0.8:
+            book = book.with_stream(name, source.choice([other for other in book.names() if other != name]), 1)
+        book = book.with_inlet(name, source.choice([0, 0, 0, some_part(source, most)]))
+    for start, end, _ in book.streams():
+        if end == "" and source.random() < 0.8:
+            book = book.without_stream(start, end)
+    return book
+
+
+def any_book(source, least=1, most=6):
+    """A random book of one of the kinds above, of so many accounts."""
+    size = source.randint(least, most)
+    if size > 1 and source.random() < 0.4:
+        return ring_book(source, size, source.choice([1, 2, 5]))
+    return some_book(source, size, source.choice([1, 2, 4, 10]), source.choice([3, 5, 8]))
+
+
+def redrawn(source, book, most=9):
+    """The book with other amounts."""
+    accounts = {name: (source.choice([0, some_part(source, most)]), book.inlet(name)) for name in book.names()}
+    return Book(accounts, book.streams())
+
+
+def amounts_of(book):
+    return {name: book.amount(name) for name in book.names()}
+
+
+def moments_of(book, source):
+    """Moments at which something happens, between them, behind them and far away, ascending."""
+    ends = [Fraction(0), *[plain(moment) for moment, _ in falls(book)]]
+    nexts = [*ends[1:], ends[-1] + 9]
+    between = [one + (other - one) * Fraction(source.randint(1, 3), 4) for one, other in zip(ends, nexts)]
+    return [ratio(moment) for moment in sorted({*ends, *between, ends[-1] + FAR})]
+
+
+def ratio(number):
+    """The same number as a Ratio."""
+    return Ratio(number.numerator, number.denominator)
+
+
+def shown(found):
+    """The same lists, tuples and dicts with texts in the place of Ratios."""
+    if isinstance(found, dict):
+        return {name: shown(item) for name, item in found.items()}
+    if isinstance(found, (list, tuple)):
+        return type(found)(shown(item) for item in found)
+    return found.text() if isinstance(found, Ratio) else found
 
 
 def plain(value):
@@ -157,3 +218,31 @@ def model_course(book):
             return found
         moment = moment + min(times)
         amounts = {name: amounts[name] + slopes[name] * min(times) for name in amounts}
+
+
+def no_accounts(book):
+    """Values of every kind that are no name of an account of the book, names nearly like one among them."""
+    near = [other for name in book.names()[:1] for other in (name + "x", name.upper(), " " + name, [name], (name,))]
+    found = [value for value in values_of_every_kind() if value not in book.names()]
+    return [*found, *near, "nobody", Ratio(1), b"mill", {"mill": 1}]
+
+
+class GivenCase(unittest.TestCase):
+    def assert_raises(self, error_class, value, call, *given):
+        """The very value is what the error tells."""
+        with self.assertRaises(error_class) as caught:
+            call(*given)
+        self.assertIs(caught.exception.given, value)
+
+    def assert_no_account(self, call, book, *rest):
+        """The function raises NoAccount for its second argument, before it looks at the others."""
+        for value in no_accounts(book):
+            with self.subTest(call=call, value=value):
+                self.assert_raises(NoAccount, value, call, book, value, *rest)
+
+    def assert_no_account_in_a_list(self, call, book, *rest):
+        """The function raises NoAccount for the first wrong item of its second argument."""
+        for value in no_accounts(book):
+            with self.subTest(call=call, value=value):
+                self.assert_raises(NoAccount, value, call, book, [value, "nobody"], *rest)
+                self.assert_raises(NoAccount, value, call, book, (*book.names(), value, None), *rest)

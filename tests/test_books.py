@@ -5,17 +5,15 @@ import unittest
 from paystreams.books import Book
 from paystreams.errors import BadAmount, BadInlet, BadName, BadStream, NoAccount, NoStream, TooMuch
 from paystreams.ratios import Ratio, as_ratio
-from tests.samples import BIG, HUGE, dice, fraction, great_book, some_book, texts, values_of_every_kind
+from tests.samples import (
+    BIG, HUGE, NO_POSITIVE, NO_UNSIGNED, dice, fraction, great_book, some_book, texts, values_of_every_kind,
+)
 
 HALF = Ratio(1, 2)
 NO_NAMES = [
     "", "abcdefghi", "Mill", "mIll", "mil1", "mill ", " mill", "mi ll", "mi-ll", "-", "mi_ll", "m\n", "mill\n", "`",
     "{", "a.b", "m\xfchle", "\xdf", "\u0430", None, True, False, 0, 7, (), ("mill",), ("m", "i"), b"mill", 0.5,
 ]
-NO_UNSIGNED = [
-    None, True, False, -1, -BIG, Ratio(-1, 2), Ratio(-1, BIG), "", "1", "1/2", [], [1], (), (1,), {}, {1: 1}, 0.5, 1.0,
-]
-NO_POSITIVE = [*NO_UNSIGNED, 0, Ratio(0)]
 
 
 def no_account_values():

@@ -8,11 +8,12 @@ from paystreams.course import fall_of, falls, later, paid, pieces, rates_at, set
 from paystreams.errors import BadDays, NoAccount
 from paystreams.rates import inflows, rates, short, stream_rates
 from paystreams.ratios import Ratio, as_ratio
-from tests.samples import BIG, dice, great_book, model_course, plain, some_book, some_part, values_of_every_kind
+from tests.samples import (
+    BIG, FAR, NO_UNSIGNED, amounts_of, dice, great_book, model_course, moments_of, plain, shown, some_book, some_part,
+    values_of_every_kind,
+)
 
 HALF = Ratio(1, 2)
-FAR = 10 ** 18
-NO_DAYS = [None, True, False, -1, -FAR, Ratio(-1, 2), Ratio(-1, BIG), "", "1", [], [1], (), (1,), {}, {1: 1}, 0.5]
 
 
 def inn_book():
@@ -26,27 +27,6 @@ def chain(amounts, wishes):
     return Book({name: (amount, 0) for name, amount in zip(names, amounts)}, streams)
 
 
-def shown(found):
-    """The same lists, tuples and dicts with texts in the place of Ratios."""
-    if isinstance(found, dict):
-        return {name: shown(item) for name, item in found.items()}
-    if isinstance(found, (list, tuple)):
-        return type(found)(shown(item) for item in found)
-    return found.text() if isinstance(found, Ratio) else found
-
-
-def amounts_of(book):
-    return {name: book.amount(name) for name in book.names()}
-
-
-def moments_of(book, source):
-    """Moments at which something happens, between them, behind them and far away, ascending."""
-    ends = [Fraction(0), *[plain(moment) for moment, _ in falls(book)]]
-    nexts = [*ends[1:], ends[-1] + 9]
-    between = [one + (other - one) * Fraction(source.randint(1, 3), 4) for one, other in zip(ends, nexts)]
-    return [Ratio(moment.numerator, moment.denominator) for moment in sorted({*ends, *between, ends[-1] + FAR})]
-
-
 class CourseCase(unittest.TestCase):
     def assert_no_account(self, book, call):
         values = [value for value in values_of_every_kind() if value != "mill"]
@@ -56,7 +36,7 @@ class CourseCase(unittest.TestCase):
             self.assertIs(caught.exception.given, value)
 
     def assert_bad_days(self, book, call):
-        for value in NO_DAYS:
+        for value in NO_UNSIGNED:
             with self.subTest(value=value), self.assertRaises(BadDays) as caught:
                 call(book, value)
             self.assertIs(caught.exception.given, value)

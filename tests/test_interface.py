@@ -23,6 +23,25 @@ FUNCTIONS = {
         "falls": ["book"], "fall_of": ["book", "name"], "later": ["book", "days"], "rates_at": ["book", "days"],
         "paid": ["book", "days"], "pieces": ["book", "name"], "settled": ["book"],
     },
+    "paystreams.ends": {
+        "end_rates": ["book"], "end_slopes": ["book"], "fallen": ["book"], "never_falls": ["book", "name"],
+        "leaving": ["book"],
+        "feeding_paper": ["book", "name"], "shows_holding": ["book", "name", "paper"],
+        "weights_paper": ["book", "name"], "shows_falling": ["book", "name", "paper"],
+        "gain_of": ["book", "paper"], "worth_of": ["book", "paper"], "latest_fall": ["book", "name", "paper"],
+    },
+    "paystreams.more": {
+        "fall_curve": ["book", "name", "place"], "fall_with": ["book", "name", "place", "extra"],
+        "least_extra": ["book", "name", "place", "days"], "end_curve": ["book", "name", "place"],
+        "least_inlet": ["book", "name", "place"], "best_help": ["book", "names", "amount"],
+    },
+    "paystreams.causes": {
+        "end_with": ["book", "helped"], "saved_by": ["book", "helped"], "help_needed": ["book", "helped"],
+        "causes": ["book", "name"], "falls_alone": ["book", "name"], "least_help": ["book", "name"],
+        "roots": ["book"],
+        "hurt_by_cut": ["book", "start", "end"], "saved_by_cut": ["book", "start", "end"],
+        "debtors": ["book", "name"],
+    },
 }
 METHODS = {
     ("paystreams.ratios", "Ratio"): {

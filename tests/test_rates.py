@@ -10,7 +10,7 @@ from paystreams.errors import BadTable, NoAccount
 from paystreams.rates import feeds, fits, inflows, inflows_of, is_table, rates, short, stream_rates
 from paystreams.ratios import Ratio
 from tests.samples import (
-    BIG, dice, great_book, model_fits, model_inflows, model_rates, plain, rich_of, some_book, texts,
+    BIG, dice, great_book, model_fits, model_inflows, model_rates, plain, rich_of, ring_book, some_book, texts,
     values_of_every_kind,
 )
 
@@ -154,14 +154,7 @@ class RatesTest(RatesCase):
     def test_rings_without_a_way_out(self):
         source = dice(41)
         for _ in range(150):
-            book = some_book(source, source.randint(2, 4), 2, 7)
-            for name in book.names():
-                if book.wish(name) == 0 or source.random() < 0.8:
-                    book = book.with_stream(name, source.choice([other for other in book.names() if other != name]), 1)
-                book = book.with_inlet(name, source.choice([0, 0, 0, 1]))
-            for start, end, _ in book.streams():
-                if end == "" and source.random() < 0.8:
-                    book = book.without_stream(start, end)
+            book = ring_book(source, source.randint(2, 4))
             rich = some_rich(source, book)
             self.assert_as_the_model(book, rich, rich_of(book) if rich is None else list(rich))
 
