@@ -2,7 +2,7 @@
 
 from paystreams.books import check_account, with_amounts
 from paystreams.errors import BadDays
-from paystreams.rates import Flow
+from paystreams.rates import Flows
 from paystreams.ratios import Ratio, as_ratio, is_unsigned
 from paystreams.systems import least_place, weighed
 
@@ -10,15 +10,15 @@ from paystreams.systems import least_place, weighed
 class Stretch:
     """A stretch of time in which no rate changes: from its start until the start of the next one, or for ever."""
 
-    def __init__(self, book, start, amounts, held):
+    def __init__(self, flows, start, amounts, held):
         """Set what holds from the start on, at which the accounts have these amounts.
 
         Those that are held up pay their wish, whatever they have; their amounts may be below 0.
         """
         self.start = start
         self.amounts = amounts
-        self.flow = Flow(book, [name for name in amounts if name in held or Ratio(0) < amounts[name]])
-        self.losing = [name for name in amounts if name not in held and self.flow.slopes[name] < 0]
+        self.flow = flows.at([name for name in amounts if name in held or Ratio(0) < amounts[name]])
+        self.emptying = [name for name in self.flow.losing if name not in held]
 
     def amounts_after(self, days):
         """Return the dict of the amounts so many days after the start."""
@@ -26,7 +26,7 @@ class Stretch:
 
     def length(self):
         """Return after how many days somebody has no money left, and None if this never happens."""
-        times = [self.amounts[name].over(-self.flow.slopes[name]) for name in self.losing]
+        times = [self.amounts[name].over(-self.flow.slopes[name]) for name in self.emptying]
         place = least_place(times)
         return None if place is None else times[place]
 
@@ -100,13 +100,14 @@ def stretches(book, until=None, held=()):
     A new one begins just when a rich account has no money left: then it falls, and others may fall with it. An account
     that gets its first money changes no rate, for it has paid its wish before.
     """
-    found = [Stretch(book, Ratio(0), {name: book.amount(name) for name in book.names()}, held)]
+    flows = Flows(book)
+    found = [Stretch(flows, Ratio(0), {name: book.amount(name) for name in book.names()}, held)]
     while True:
         last = found[-1]
         days = last.length()
         if days is None or (until is not None and as_ratio(until) < last.start + days):
             return found
-        found.append(Stretch(book, last.start + days, last.amounts_after(days), held))
+        found.append(Stretch(flows, last.start + days, last.amounts_after(days), held))
 
 
 def amounts_at(found, days):

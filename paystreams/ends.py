@@ -2,7 +2,7 @@
 
 from paystreams.books import check_account
 from paystreams.errors import BadTable
-from paystreams.rates import Flow, dry_rows, feeds, is_table, rates, short, stream_rates
+from paystreams.rates import dry_rows, feeds, flow_for, is_table, rates, short, stream_rates
 from paystreams.ratios import Ratio, as_ratio, is_unsigned, total
 from paystreams.systems import solved
 
@@ -14,7 +14,7 @@ def end_rates(book):
 
 def end_slopes(book):
     """Return the dict of what each account gets more a day in the end."""
-    return Flow(book, []).slopes
+    return flow_for(book, []).slopes
 
 
 def fallen(book):

@@ -122,8 +122,7 @@ def _fall_near(flows, book, name, place):
         flow = flows.at([other for other in amounts if nothing.is_less(amounts[other])])
         if name in flow.dry:
             return moment, _least_of(rooms)
-        losing = [other for other in amounts if flow.slopes[other] < 0]
-        times = [amounts[other].times(Ratio(-1).over(flow.slopes[other])) for other in losing]
+        times = [amounts[other].times(Ratio(-1).over(flow.slopes[other])) for other in flow.losing]
         days = _first_line(times)
         rooms.extend([days.room_below(other) for other in times])
         moment = moment.plus(days)

@@ -7,52 +7,71 @@ from paystreams.systems import solved
 
 
 class Flow:
-    """How money flows for some rich accounts; it never changes."""
+    """How money flows if some dry accounts pay what comes in, and all others their wishes; it never changes."""
 
-    def __init__(self, book, rich):
+    def __init__(self, book, dry):
         names = book.names()
-        self.flows = stream_rates(book, rich)
-        self.rates = {name: total([rate for start, _, rate in self.flows if start == name]) for name in names}
-        coming = {name: total([rate for _, end, rate in self.flows if end == name]) for name in names}
-        self.slopes = {name: book.inlet(name) + coming[name] - self.rates[name] for name in names}
-        self.dry = [name for name in names if self.rates[name] < book.wish(name)]
+        parts = _parts_with(book, dry)
+        coming = _inflows_by(book, parts)
+        self.dry = dry
+        self.flows = _flows_by(book, parts)
+        self.rates = {name: book.wish(name) * parts[name] for name in names}
+        self.inflows = coming
+        self.slopes = {name: coming[name] - self.rates[name] for name in names}
+        self.losing = [name for name in names if self.slopes[name] < 0]
 
 
 class Flows:
-    """How money flows in a book for every lot of rich accounts; each one is worked out once."""
+    """How money flows in a book for all lots of rich accounts; for each lot of dry ones it is worked out once."""
 
     def __init__(self, book):
         self._book = book
         self._known = {}
 
     def at(self, rich):
-        """Return the Flow for a list of rich accounts."""
-        key = tuple(rich)
+        """Return the Flow at the rates for some rich accounts.
+
+        At first all pay their wishes. Those that are not rich and get less than their wish become dry: from then on
+        they pay just what comes in. So nobody ever pays less here than at the rates, and who becomes dry is short at
+        the rates too. When nobody becomes dry any more, the table fits, and so it is that of the rates.
+        """
+        flow = self._with_dry([])
+        while True:
+            more = [name for name in flow.losing if name not in rich]
+            if len(more) == 0:
+                return flow
+            flow = self._with_dry([name for name in self._book.names() if name in flow.dry or name in more])
+
+    def _with_dry(self, dry):
+        key = tuple(dry)
         if key not in self._known:
-            self._known[key] = Flow(self._book, rich)
+            self._known[key] = Flow(self._book, dry)
         return self._known[key]
 
 
 def rates(book, rich=None):
     """Return the dict of the rates."""
-    parts = _parts_paid(book, rich)
-    return {name: book.wish(name) * parts[name] for name in parts}
+    return flow_for(book, rich).rates
 
 
 def inflows(book, rich=None):
     """Return the dict of the inflows at the rates."""
-    return _inflows_by(book, _parts_paid(book, rich))
+    return flow_for(book, rich).inflows
 
 
 def short(book, rich=None):
     """Return the ascending list of the accounts that are short."""
-    parts = _parts_paid(book, rich)
-    return [name for name in parts if parts[name] < 1]
+    return flow_for(book, rich).dry
 
 
 def stream_rates(book, rich=None):
     """Return the list of the tuples (start, end, rate) of all streams at the rates."""
-    return _flows_by(book, _parts_paid(book, rich))
+    return flow_for(book, rich).flows
+
+
+def flow_for(book, rich):
+    """Return the Flow at the rates for some rich accounts, or for those with an amount above 0."""
+    return Flows(book).at(_rich_names(book, rich))
 
 
 def is_table(book, table):
@@ -102,24 +121,6 @@ def _rich_names(book, rich):
     for name in rich:
         check_account(book, name)
     return rich
-
-
-def _parts_paid(book, rich):
-    """Return for each account the part of its wish that it pays at the rates.
-
-    At first all pay their wishes. Those that are not rich and get less than their wish become dry: from then on they
-    pay just what comes in. So nobody ever pays less here than at the rates, and who becomes dry is short at the rates
-    too. When nobody becomes dry any more, the table fits, and so it is that of the rates.
-    """
-    paying = _rich_names(book, rich)
-    dry = []
-    while True:
-        parts = _parts_with(book, dry)
-        coming = _inflows_by(book, parts)
-        more = [name for name in parts if name not in [*paying, *dry] and coming[name] < book.wish(name)]
-        if len(more) == 0:
-            return parts
-        dry = [*dry, *more]
 
 
 def _parts_with(book, dry):

@@ -9,7 +9,7 @@ from paystreams.causes import (
 )
 from paystreams.course import fall_of, falls, later
 from paystreams.ends import end_rates, fallen
-from paystreams.errors import NoAccount, NoStream
+from paystreams.errors import NoStream
 from paystreams.rates import inflows, rates, short
 from paystreams.ratios import Ratio
 from tests.samples import (

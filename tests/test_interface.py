@@ -42,6 +42,22 @@ FUNCTIONS = {
         "hurt_by_cut": ["book", "start", "end"], "saved_by_cut": ["book", "start", "end"],
         "debtors": ["book", "name"],
     },
+    "paystreams.twins": {
+        "act_alike": ["one", "other"], "parting": ["one", "other"], "joined": ["book", "first", "second"],
+        "greatest_inflow": ["book", "name"], "stays_dry": ["book", "name"], "taken_out": ["book", "name"],
+        "thinned": ["book"],
+    },
+    "paystreams.seen": {
+        "is_sight": ["book", "value"], "fits_sights": ["book", "sights", "amounts"],
+        "amounts_for": ["book", "sights"], "earliest": ["book", "sights"],
+        "verdict": ["book", "sights", "name", "moment"], "clashing": ["book", "sights"],
+    },
+    "paystreams.plans": {
+        "is_plan": ["book", "value"], "with_plan": ["book", "plan", "days"], "plan_sum": ["plan"],
+        "lacks": ["book", "plan", "name", "until"], "keeps": ["book", "plan", "names", "until"],
+        "top_ups": ["book", "names", "moments", "until"],
+    },
+    "paystreams.desk": {"read_desk": ["text"]},
 }
 METHODS = {
     ("paystreams.ratios", "Ratio"): {
@@ -55,12 +71,22 @@ METHODS = {
         "with_inlet": ["self", "name", "inlet"],
         "with_stream": ["self", "start", "end", "wish"], "without_stream": ["self", "start", "end"],
     },
+    ("paystreams.desk", "Desk"): {
+        "__init__": ["self"], "add": ["self", "name", "inlet"], "pay": ["self", "name", "amount"],
+        "draw": ["self", "name", "amount"], "turn": ["self", "name", "inlet"],
+        "stream": ["self", "start", "end", "wish"], "stop": ["self", "start", "end"], "wait": ["self", "days"],
+        "now": ["self"], "book": ["self"], "flowed": ["self", "start", "end"], "fallen": ["self"],
+        "next_fall": ["self"],
+        "sums": ["self"], "undo": ["self"], "redo": ["self"], "trial": ["self"], "text": ["self"],
+        "supposed": ["self", "text"],
+    },
 }
 OTHERS = {
     ("paystreams.ratios", "Ratio"): [
         "read", "top", "bottom", "__add__", "__sub__", "__mul__", "__neg__", "__eq__", "__lt__", "__le__",
     ],
     ("paystreams.books", "Book"): ["read", "__len__", "__eq__"],
+    ("paystreams.desk", "Desk"): ["__len__"],
 }
 
 

@@ -10,7 +10,7 @@ from paystreams.errors import BadTable, NoAccount
 from paystreams.rates import feeds, fits, inflows, inflows_of, is_table, rates, short, stream_rates
 from paystreams.ratios import Ratio
 from tests.samples import (
-    BIG, dice, great_book, model_fits, model_inflows, model_rates, plain, rich_of, ring_book, some_book, texts,
+    BIG, dice, great_book, model_fits, model_inflows, model_rates, plain, rich_of, ring_book, some_book,
     values_of_every_kind,
 )
 
